@@ -1,0 +1,1 @@
+"""Beatless: rounds where there is no beat."""

@@ -1,4 +1,8 @@
-"""The form of the package's files: those of the rules L1 to L28 that can be seen in a file's tree."""
+"""The form of the package's files: a part of the rules L1 to L28.
+
+Looked at are files, sizes, imports, tops, kinds of statements and expressions, and names (L1 to L8, L10, L12, L14,
+L16 to L18, L20, L25 to L27, each in part). What L11, L13, L15, L19, L22 to L24 and L28 say is hardly looked at here.
+"""
 
 import ast
 import builtins

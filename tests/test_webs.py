@@ -1,22 +1,17 @@
 """Webs (point 6)."""
 
 import itertools
-import random
 import unittest
 
 from beatless.errors import NoHand, NoWeb
 from beatless.webs import Web
+from samples import all_lines, some_webs
 
-ALL_SIZES = range(1, 13)
 # Values that are no hands of any web; the last ones equal a hand, or can't be written out or hashed.
 NO_HANDS = [
     None, "0", "", [], [0], {}, (), (0,), -1, 100, 10 ** 20, -10 ** 20, 10 ** 5000,
     True, False, 0.0, 1.0, 1.5, set(), object(), Web, Web([0], []), b"0", float("nan"),
 ]
-
-
-def all_lines(hands):
-    return list(itertools.combinations(hands, 2))
 
 
 def groups_by_merging(hands, lines):
@@ -27,16 +22,6 @@ def groups_by_merging(hands, lines):
         for hand in joined:
             group[hand] = joined
     return sorted({tuple(sorted(members)) for members in group.values()})
-
-
-def some_webs():
-    chance = random.Random(6)
-    for many in ALL_SIZES:
-        for share in (0, 1, 2, 5, 10):
-            hands = sorted(chance.sample(range(100), many))
-            lines = [line for line in all_lines(hands) if chance.randrange(10) < share]
-            chance.shuffle(lines)
-            yield hands, lines
 
 
 class Made(unittest.TestCase):

@@ -1,8 +1,7 @@
 """Roads: over which hands the word that a neighbour is through a round comes to a hand."""
 
-from beatless.errors import NoWay
+from beatless.ways import is_grounded, refuse_unlet
 from beatless.wholes import is_whole
-from beatless.ways import is_grounded, lets
 
 
 def road_within(way, hand, neighbour):
@@ -40,8 +39,7 @@ def pairs_of(web):
 
 
 def roads(web, way):
-    if not lets(web, way):
-        raise NoWay("the way is not let by for the web")
+    refuse_unlet(web, way)
     bridges = bridges_by_leaders(way)
     paper = {}
     for hand, neighbour in pairs_of(web):

@@ -1,12 +1,15 @@
 """Seats: one hand, the letters that it takes and those that it sends, round by round."""
 
 from beatless.errors import NoRound
+from beatless.ways import copied
 from beatless.wholes import is_whole
 
 
 class Seat:
     def __init__(self, web, way, program, rounds, hand):
         parent = way.parent_of(hand)
+        self.web = web
+        self.way = way
         self.program = program
         self.rounds = rounds
         self.me = hand
@@ -14,8 +17,10 @@ class Seat:
         self.above = [] if parent is None else [parent]
         self.below = way.children(hand)
         self.across = way.bridges_at(hand)
-        self.worths = [program.first_worth(hand, len(self.near))]
-        # By round and kind, from who sent it to its number: words and besides may come ahead of their round.
+        # By round, and only of rounds that it has ended: behind mends some may lack in between.
+        self.worths = {0: program.first_worth(hand, len(self.near))}
+        self.pairs_heard = {}
+        # By round, then by kind, from who sent it to its number: words and besides may come ahead of their round.
         self.mail = {}
         self.turn = 1
         self.awaited = 0
@@ -28,7 +33,7 @@ class Seat:
         kind = letter[0]
         sender = letter[1]
         turn = letter[3]
-        self.mail.setdefault((turn, kind), {}).update({sender: letter[4]})
+        self.mail.setdefault(turn, {}).setdefault(kind, {}).update({sender: letter[4]})
         answer = [("got", self.me, sender, turn, None)] if kind == "word" else []
         return answer + self.go_as_far_as_can_be()
 
@@ -36,20 +41,43 @@ class Seat:
         return self.turn - 1
 
     def worth(self, turn):
-        if not is_whole(turn) or turn < 0 or turn > self.ended():
+        if not is_whole(turn) or turn not in self.worths:
             raise NoRound("the hand has no worth of such a round")
         return self.worths[turn]
 
     def heard(self, turn):
-        if not is_whole(turn) or turn < 1 or turn > self.ended():
-            raise NoRound("the hand has not ended such a round")
-        return sorted(self.come(turn, "word").items())
+        if not is_whole(turn) or turn not in self.pairs_heard:
+            raise NoRound("the hand has ended no such round")
+        return list(self.pairs_heard[turn])
 
-    def come(self, turn, kind):
-        return self.mail.get((turn, kind), {})
+    def last_worth(self):
+        return self.worths[max(self.worths)]
+
+    def forget_behind(self, turn):
+        self.worths = dict([(each, worth) for each, worth in self.worths.items() if each <= turn])
+        self.pairs_heard = dict([(each, pairs) for each, pairs in self.pairs_heard.items() if each <= turn])
+        self.turn = turn + 1
+
+    def moved(self, web, way, turn):
+        # The same hand in another web, ahead of all letters, as though it had just ended the round.
+        seat = Seat(web, way, self.program, self.rounds, self.me)
+        seat.worths = dict(self.worths)
+        seat.pairs_heard = dict(self.pairs_heard)
+        seat.turn = turn + 1
+        return seat
+
+    def twin(self):
+        seat = self.moved(self.web, self.way, self.ended())
+        seat.mail = copied(self.mail)
+        seat.awaited = self.awaited
+        seat.did = dict(self.did)
+        return seat
+
+    def come(self, kind):
+        return self.mail.get(self.turn, {}).get(kind, {})
 
     def has_come(self, kind, many):
-        return len(self.come(self.turn, kind)) >= many
+        return len(self.come(kind)) >= many
 
     def tell_each(self, kind, others):
         return [(kind, self.me, other, self.turn, None) for other in others]
@@ -60,7 +88,7 @@ class Seat:
             return []
         words = []
         for other in self.near:
-            number = self.program.word_to(self.worths[-1], self.me, self.turn, len(self.near), other)
+            number = self.program.word_to(self.last_worth(), self.me, self.turn, len(self.near), other)
             if number is not None:
                 words.append(("word", self.me, other, self.turn, number))
         self.awaited = len(words)
@@ -106,7 +134,11 @@ class Seat:
         return self.tell_each("clear", self.above)
 
     def end_round(self):
-        numbers = list(self.come(self.turn, "word").values())
-        worth = self.program.next_worth(self.worths[-1], self.me, self.turn, len(self.near), numbers)
-        self.worths.append(worth)
+        pairs = sorted(self.come("word").items())
+        numbers = [pair[1] for pair in pairs]
+        worth = self.program.next_worth(self.last_worth(), self.me, self.turn, len(self.near), numbers)
+        self.worths[self.turn] = worth
+        self.pairs_heard[self.turn] = pairs
+        # No letter of an ended round is asked for again.
+        self.mail.pop(self.turn, None)
         self.turn += 1

@@ -1,5 +1,6 @@
 """Ways: clusters of hands under leaders, and the bridges between clusters."""
 
+from beatless.errors import NoWay
 from beatless.wholes import is_whole
 
 
@@ -125,6 +126,11 @@ def lets(web, way):
         if leaders not in bridged:
             return False
     return True
+
+
+def refuse_unlet(web, way):
+    if not lets(web, way):
+        raise NoWay("the way is not let by for the web")
 
 
 def next_ring(web, left, parents, ring):

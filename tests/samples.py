@@ -2,10 +2,12 @@
 
 import itertools
 import random
+import unittest
 
+from beatless.errors import Fallen, NoHand, NoRound
 from beatless.programs import read_program
 from beatless.seats import Seat
-from beatless.ways import Way
+from beatless.ways import Way, by_clusters, by_neighbours, by_tree
 from beatless.webs import Web
 
 # A program's text, and the same in Python's own words: start, send, when, reckon.
@@ -47,6 +49,7 @@ ANYTHING = [
     None, True, False, 0, 1, -1, 10 ** 20, 1.0, 0.5, float("nan"), "", "1", "ab", b"1", [], [1], [[]], (), (1,), (1, 2),
     ([],), {}, {1: 2}, set(), {1}, range(3), object(), Web, Way, len,
 ]
+NO_WHOLES = [value for value in ANYTHING if type(value) is not int]
 
 
 def all_lines(hands):
@@ -102,6 +105,25 @@ def chance_way(chance, web):
     return parents, bridges
 
 
+def some_settings(seed):
+    """Webs of all sizes, each by neighbours, by tree, by clusters and by a way of chance, with a program and rounds."""
+    chance = random.Random(seed)
+    for hands, lines in some_webs():
+        web = Web(hands, lines)
+        ways = [by_neighbours(web), by_tree(web), by_clusters(web, chance.randint(1, 3)), Way(*chance_way(chance, web))]
+        for way in ways:
+            yield web, way, chance.choice(programs()), chance.choice((0, 1, 2, 3, 4)), chance
+
+
+class Refusing(unittest.TestCase):
+    def refuse(self, error, call, *values, told=None):
+        """Refused with just this error, which bears no value but those told."""
+        with self.assertRaises(error) as caught:
+            call(*values)
+        self.assertIs(type(caught.exception), error)
+        self.assertEqual(vars(caught.exception), told or {}, values)
+
+
 class Table:
     """Hands that take one another's letters, in whatever row they are carried."""
 
@@ -125,3 +147,73 @@ class Table:
         """Carries till no letter is on the road; what is chosen of how many is carried next."""
         while self.road:
             self.carry(choose(len(self.road)))
+
+
+def unlet_ways():
+    """Webs with ways that aren't let by for them, and with what is no way."""
+    two = Web([1, 2], [(1, 2)])
+    path = path_web([1, 2, 3])
+    for parents, bridges in (
+        ({1: None}, []), ({1: None, 2: 1, 3: None}, []), ({1: 2, 2: 1}, []), ({1: None, 2: None}, []),
+        ({1: None, 2: 2}, []), ({1: None, 2: 3}, []), ({1: None, 2: None}, [(2, 1)]), ({1: None, 2: 1}, [(1, 2)]),
+        ({1: None, 2: None}, [(1, 2), (1, 2)]), ({True: None, 2: 1}, []), ({}, []), ([], []), ({1: None, 2: 1}, ()),
+    ):
+        yield two, Way(parents, bridges)
+    for parents, bridges in (
+        ({1: None, 2: None, 3: None}, [(1, 2)]), ({1: None, 2: 1, 3: None}, []), ({1: None, 2: 1, 3: 1}, []),
+        ({1: None, 2: None, 3: 2}, [(1, 3)]), ({1: None, 2: 1, 3: 2}, [(2, 3)]),
+    ):
+        yield path, Way(parents, bridges)
+    for value in (None, {}, ({1: None, 2: 1}, []), two, "way"):
+        yield two, value
+
+
+def carry_all(hall, choose=lambda many: 0):
+    """Carries till no letter is on the road; what is chosen of how many is carried next."""
+    while hall.road():
+        hall.carry(choose(len(hall.road())))
+
+
+def let_fall(hall, chance):
+    """A hand or a line falls, where it hasn't."""
+    web = hall.web_now()
+    try:
+        if chance.randrange(2) or not web.lines():
+            hall.fall(chance.choice(web.hands()))
+        else:
+            hall.cut(*chance.choice(web.lines()))
+    except Fallen:
+        pass
+
+
+def stand_of(hall):
+    """All that a hall tells, as plain values; of webs and ways what they hold."""
+    hands = range(100)
+    told = []
+    for hand in hands:
+        try:
+            ended = hall.ended(hand)
+        except NoHand:
+            continue
+        worths = {}
+        heard = {}
+        for turn in range(ended + 2):
+            try:
+                worths[turn] = hall.worth(hand, turn)
+            except NoRound:
+                pass
+            try:
+                heard[turn] = hall.heard(hand, turn)
+            except NoRound:
+                pass
+        told.append((hand, ended, worths, heard))
+    web, way = hall.web_now(), hall.way_now()
+    pieces = [(each.hands(), each.lines(), rounds) for each, rounds in hall.pieces()]
+    sent = {}
+    for kind in ("word", "got", "through", "all", "beside", "clear", "go"):
+        for turn in range(45):
+            if hall.sent(kind, turn):
+                sent[kind, turn] = hall.sent(kind, turn)
+    return (
+        hall.road(), told, hall.done(), web.hands(), web.lines(), way.all_parents(), way.all_bridges(), pieces, sent,
+    )

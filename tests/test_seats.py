@@ -10,7 +10,7 @@ from beatless.programs import read_program
 from beatless.seats import Seat
 from beatless.ways import Way, by_clusters, by_neighbours, by_tree
 from beatless.webs import Web
-from samples import ANYTHING, Table, chance_way, path_web, programs, some_webs
+from samples import ANYTHING, Table, path_web, some_settings
 
 GATHER = read_program("start me\nsend worth\nwhen 1\nreckon add worth sum")
 SILENT = read_program("start me\nsend worth\nwhen 0\nreckon add worth round")
@@ -382,19 +382,9 @@ class Telling(unittest.TestCase):
         self.assertEqual((seat.worth(turn=0), seat.worth(turn=1), seat.heard(turn=1)), (2, 3, [(1, 1)]))
 
 
-def some_tables():
-    """Webs of all sizes, each with a few ways, programs and rounds."""
-    chance = random.Random(17)
-    for hands, lines in some_webs():
-        web = Web(hands, lines)
-        ways = [by_neighbours(web), by_tree(web), by_clusters(web, chance.randint(1, 3)), Way(*chance_way(chance, web))]
-        for way in ways:
-            yield web, way, chance.choice(programs()), chance.choice((0, 1, 2, 3, 4)), chance
-
-
 class AmongOthers(unittest.TestCase):
     def test_worths_and_heard_are_those_of_the_plain_run(self):
-        for web, way, program, rounds, chance in some_tables():
+        for web, way, program, rounds, chance in some_settings(17):
             worths = plain_worths(web, program, rounds)
             heard = plain_heard(web, program, rounds)
             for choose in (lambda many: 0, lambda many: many - 1, chance.randrange):
@@ -414,7 +404,7 @@ class AmongOthers(unittest.TestCase):
                 self.assertEqual(seat.heard(ended), heard[ended - 1][hand])
 
     def test_what_was_told_of_a_round_stays(self):
-        for web, way, program, rounds, chance in some_tables():
+        for web, way, program, rounds, chance in some_settings(17):
             table = Table(web, way, program, rounds)
             table.carry_all(chance.randrange)
             worths = plain_worths(web, program, rounds)
@@ -424,7 +414,7 @@ class AmongOthers(unittest.TestCase):
                 self.assertEqual([seat.heard(turn + 1) for turn in range(rounds)], [each[hand] for each in heard])
 
     def test_as_many_letters_as_there_are_things_to_tell(self):
-        for web, way, program, rounds, chance in some_tables():
+        for web, way, program, rounds, chance in some_settings(17):
             table = Table(web, way, program, rounds)
             table.carry_all(chance.randrange)
             kinds = [letter[0] for letter in table.letters]
@@ -438,7 +428,7 @@ class AmongOthers(unittest.TestCase):
             self.assertEqual(len(set(table.letters)), len(table.letters))
 
     def test_the_form_of_letters(self):
-        for web, way, program, rounds, chance in some_tables():
+        for web, way, program, rounds, chance in some_settings(17):
             table = Table(web, way, program, rounds)
             table.carry_all(chance.randrange)
             for letter in table.letters:
@@ -450,7 +440,7 @@ class AmongOthers(unittest.TestCase):
 
     def test_letter_by_letter_as_the_rules_say(self):
         ahead = {}
-        for web, way, program, rounds, chance in some_tables():
+        for web, way, program, rounds, chance in some_settings(17):
             table = Table(web, way, program, rounds)
             other = Table(web, way, program, rounds, Reference)
             self.assertEqual(table.road, other.road)

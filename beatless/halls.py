@@ -26,7 +26,6 @@ class Hall:
     def __init__(self, web, way, program, rounds):
         refuse_unlet(web, way)
         self.first_web = web
-        self.program = program
         self.rounds = rounds
         self.web = web
         self.way = way

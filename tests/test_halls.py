@@ -11,8 +11,8 @@ from beatless.programs import read_program
 from beatless.ways import Way, by_neighbours, by_tree
 from beatless.webs import Web
 from samples import (
-    ANYTHING, NO_WHOLES, Refusing, Table, all_lines, carry_all, chance_way, let_fall, path_web, some_settings, some_webs,
-    stand_of, unlet_ways,
+    ANYTHING, NO_WHOLES, Refusing, Table, all_lines, carry_all, chance_way, let_fall, path_web, some_settings,
+    some_webs, stand_of, unlet_ways,
 )
 
 GATHER = read_program("start me\nsend worth\nwhen 1\nreckon add worth sum")

@@ -268,7 +268,8 @@ class Reading(Texts):
             ["hands 1 2", "line 1 2"], ["hands 1 2", "line 1 2", "parent 2 1", "bridge 1 2"],
             ["hands 1 2", "line 1 2", "parent 1 2", "parent 2 1"], ["hands 1 2", "parent 2 1"],
             ["hands 1 2", "line 1 2", "parent 2 1", "parent 3 1"], ["hands 1 2", "line 1 2", "parent 2 2"],
-            ["hands 1 2", "line 1 2", "bridge 2 1"], ["hands 1 2", "bridge 1 2"], ["hands 1 2", "line 1 2", "parent 2 3"],
+            ["hands 1 2", "line 1 2", "bridge 2 1"], ["hands 1 2", "bridge 1 2"],
+            ["hands 1 2", "line 1 2", "parent 2 3"],
             ["hands 1 2", "line 1 2", "bridge 1 2", "bridge 1 3"], ["hands 1", "parent " + "9" * 20 + " 1"],
         ):
             self.refuse(NoWay, read_setting, "\n".join(rows + rest))
@@ -288,8 +289,8 @@ class Reading(Texts):
     def test_rows_of_chance(self):
         chance = random.Random(32)
         words = [
-            "hands", "line", "parent", "bridge", "start", "send", "when", "reckon", "rounds", "0", "1", "2", "4", "7", "9",
-            "40", "41", "-1", "01", "me", "worth", "add", "mod", "less", "", "9" * 20, "9" * 21,
+            "hands", "line", "parent", "bridge", "start", "send", "when", "reckon", "rounds", "0", "1", "2", "4", "7",
+            "9", "40", "41", "-1", "01", "me", "worth", "add", "mod", "less", "", "9" * 20, "9" * 21,
         ]
         told = {}
         for trial in range(6000):
